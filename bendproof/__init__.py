@@ -1,0 +1,1 @@
+"""Bendproof: nets of sums and bends, and papers for what they never do."""
