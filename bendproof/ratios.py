@@ -2,6 +2,8 @@
 
 from bendproof.errors import NoRatio, NoText
 
+NOUGHT = (0, 1)
+ONE = (1, 1)
 FIGURES = "0123456789"
 MOST_FIGURES = 60
 
@@ -31,29 +33,67 @@ def ratio(top, bottom):
     return (top // by, bottom // by)
 
 
+def is_ratio(thing):
+    """True where the thing, of any kind, is a ratio."""
+    if not isinstance(thing, tuple) or len(thing) != 2:
+        return False
+    if not is_whole(thing[0]) or not is_whole(thing[1]) or thing[1] < 1:
+        return False
+    return common(abs(thing[0]), thing[1]) == 1
+
+
+def plain(one):
+    """A ratio that was handed in, as a tuple and whole numbers of Python's own."""
+    return (int(one[0]), int(one[1]))
+
+
 def plus(one, other):
     """The sum of two ratios."""
-    return ratio(one[0] * other[1] + other[0] * one[1], one[1] * other[1])
+    by = common(one[1], other[1])
+    top = one[0] * (other[1] // by) + other[0] * (one[1] // by)
+    # Of what divides the bottom only what divides both bottoms can divide the top, and this is mostly short.
+    rest = common(abs(top), by)
+    return (top // rest, (one[1] // by) * (other[1] // rest))
 
 
 def minus(one, other):
     """The first ratio less the other."""
-    return ratio(one[0] * other[1] - other[0] * one[1], one[1] * other[1])
+    return plus(one, (-other[0], other[1]))
 
 
 def times(one, other):
     """The product of two ratios."""
-    return ratio(one[0] * other[0], one[1] * other[1])
+    # Each ratio is in lowest terms already, so each top is held against the other's bottom alone.
+    by = common(abs(one[0]), other[1])
+    across = common(abs(other[0]), one[1])
+    return ((one[0] // by) * (other[0] // across), (one[1] // across) * (other[1] // by))
 
 
 def over(one, other):
     """The first ratio parted by the other, or NoRatio where this is nought."""
-    return ratio(one[0] * other[1], one[1] * other[0])
+    if other[0] == 0:
+        raise NoRatio("nothing is parted by nought")
+    if other[0] < 0:
+        return times(one, (-other[1], -other[0]))
+    return times(one, (other[1], other[0]))
 
 
 def less(one, other):
     """True where the first ratio is below the other, else False."""
     return one[0] * other[1] < other[0] * one[1]
+
+
+def bent(one):
+    """A ratio where it is above 0, else 0."""
+    return one if less(NOUGHT, one) else NOUGHT
+
+
+def over_one_bottom(several):
+    """Ratios as a tuple of their tops over one bottom, a list, and this bottom."""
+    bottom = 1
+    for one in several:
+        bottom = bottom // common(bottom, one[1]) * one[1]
+    return ([one[0] * (bottom // one[1]) for one in several], bottom)
 
 
 def figures(number):

@@ -4,6 +4,7 @@ from fractions import Fraction
 
 from bendproof.forms import added, scaled, value
 from bendproof.ratios import minus, over, ratio, times
+from helping import fractions, pairs
 
 FORMS = {
     0: [[(0, 1)], [(1, 2)], [(-7, 3)]],
@@ -11,14 +12,6 @@ FORMS = {
     3: [[(0, 1), (0, 1), (0, 1), (0, 1)], [(1, 6), (1, 3), (-2, 1), (0, 1)], [(-5, 1), (2, 3), (2, 1), (7, 10)]],
 }
 BYS = [(0, 1), (1, 1), (-1, 1), (3, 2), (-2, 3), (6, 1)]
-
-
-def pairs(fractions):
-    return [(one.numerator, one.denominator) for one in fractions]
-
-
-def fractions(form):
-    return [Fraction(*one) for one in form]
 
 
 def points(many):

@@ -40,6 +40,24 @@ def bound_names():
     return names
 
 
+def top_names(path):
+    """Each name that a file defines at its top."""
+    found = []
+    for one in ast.parse(path.read_text("utf-8")).body:
+        if isinstance(one, (ast.FunctionDef, ast.ClassDef)):
+            found.append(one.name)
+        if isinstance(one, ast.Assign):
+            found.append(one.targets[0].id)
+    return found
+
+
+def called(node):
+    """The name that is called, be it a function's or a method's, or none."""
+    if not isinstance(node, ast.Call):
+        return None
+    return node.func.id if isinstance(node.func, ast.Name) else node.func.attr
+
+
 class Language(unittest.TestCase):
     def test_files(self):
         self.assertIn(PACKAGE / "__init__.py", FILES)
@@ -83,10 +101,37 @@ class Language(unittest.TestCase):
         for file, node in nodes(ast.ImportFrom):
             defining = PACKAGE / (node.module.removeprefix("bendproof.") + ".py")
             self.assertTrue(node.level == 0 and node.module.startswith("bendproof."), (file, node.lineno))
-            names = [one.name for one in ast.parse(defining.read_text("utf-8")).body
-                     if isinstance(one, (ast.FunctionDef, ast.ClassDef))]
             for alias in node.names:
-                self.assertIn(alias.name, names, (file, node.lineno))
+                self.assertIn(alias.name, top_names(defining), (file, node.lineno))
+                self.assertIsNone(alias.asname, (file, node.lineno))
+
+    def test_no_two_files_draw_from_one_another(self):
+        drawn = {path.stem: {node.module.removeprefix("bendproof.") for file, node in nodes(ast.ImportFrom)
+                             if file == path.name} for path in FILES}
+        while drawn:
+            last = [stem for stem, modules in drawn.items() if not modules & set(drawn)]
+            self.assertNotEqual(last, [], drawn)
+            for stem in last:
+                del drawn[stem]
+
+    def test_names_at_the_top_of_a_file(self):
+        for path in FILES:
+            names = top_names(path)
+            self.assertEqual(len(names), len(set(names)), path)
+            body = ast.parse(path.read_text("utf-8")).body
+            self.assertIsInstance(body[0], ast.Expr, path)
+            for one in body[1:]:
+                self.assertIsInstance(one, (ast.ImportFrom, ast.Assign, ast.FunctionDef, ast.ClassDef), (path, one.lineno))
+
+    def test_locals_are_called_unlike_classes_and_imports(self):
+        for path in FILES:
+            tree = ast.parse(path.read_text("utf-8"))
+            taken = {alias.name for node in ast.walk(tree) if isinstance(node, ast.ImportFrom) for alias in node.names}
+            taken |= {node.name for node in ast.walk(tree) if isinstance(node, ast.ClassDef)}
+            for part in [node for node in ast.walk(tree) if isinstance(node, (ast.FunctionDef, ast.Lambda))]:
+                found = {node.arg for node in ast.walk(part) if isinstance(node, ast.arg)}
+                found |= {node.id for node in ast.walk(part) if isinstance(node, ast.Name) and isinstance(node.ctx, ast.Store)}
+                self.assertEqual(found & taken, set(), (path, part.lineno))
 
     def test_names(self):
         for file, name in bound_names():
@@ -101,6 +146,40 @@ class Language(unittest.TestCase):
         for file, node in nodes(ast.Call):
             if isinstance(node.func, ast.Attribute):
                 self.assertIn(node.func.attr, METHODS | own, (file, node.lineno))
+
+    def test_methods_and_values_of_objects(self):
+        methods = {one.name for _, node in nodes(ast.ClassDef) for one in node.body if isinstance(one, ast.FunctionDef)}
+        values = {node.attr for _, node in nodes(ast.Attribute) if isinstance(node.ctx, ast.Store)}
+        self.assertEqual(methods & values, set())
+        pythons = {name for kind in (str, int, list, tuple, dict, set, frozenset, bytes) for name in dir(kind)}
+        self.assertEqual((methods | values) & pythons - set(UNDERSCORED), set())
+
+    def test_what_is_walked_is_walked_at_once(self):
+        lazy = ("zip", "enumerate", "reversed", "range", "items", "keys", "values")
+        takers = "list tuple dict sorted sum any all enumerate zip min max join".split()
+        for path in FILES:
+            parts = list(ast.walk(ast.parse(path.read_text("utf-8"))))
+            walked = [node.iter for node in parts if isinstance(node, (ast.For, ast.comprehension))]
+            walked += [part for node in parts if called(node) in takers for part in node.args[:1]]
+            for node in parts:
+                if called(node) in lazy and node not in walked:
+                    self.fail((path, node.lineno))
+
+    def test_sets_are_not_kept(self):
+        for path in FILES:
+            parts = list(ast.walk(ast.parse(path.read_text("utf-8"))))
+            held = [part for node in parts if called(node) in ("sorted", "len") for part in node.args]
+            held += [part for node in parts if isinstance(node, ast.Compare) for part in node.comparators]
+            for node in parts:
+                if called(node) in ("set", "frozenset") and node not in held:
+                    self.fail((path, node.lineno))
+
+    def test_keywords(self):
+        allowed = {"sorted": ("key", "reverse"), "min": ("key", "default"), "max": ("key", "default"), "sum": ("start",),
+                   "enumerate": ("start",), "zip": ("strict",)}
+        for file, node in nodes(ast.Call):
+            for keyword in node.keywords:
+                self.assertIn(keyword.arg, allowed.get(called(node), ()), (file, node.lineno))
 
     def test_numbers_and_texts(self):
         for file, node in nodes(ast.BinOp):

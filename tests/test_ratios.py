@@ -7,7 +7,7 @@ from fractions import Fraction
 
 from bendproof.errors import NoRatio, NoText
 from bendproof.ratios import less, minus, over, plus, ratio, read, shown, times
-from helping import assert_refused, long_number, strange_things
+from helping import assert_refused, long_number, pair, strange_things
 
 SMALL = range(-12, 13)
 FEW = [(0, 1), (1, 1), (-1, 1), (1, 2), (-1, 2), (3, 2), (2, 3), (-2, 3), (5, 6), (-7, 6), (4, 1), (-9, 10), (1, 6)]
@@ -15,10 +15,6 @@ FEW = [(0, 1), (1, 1), (-1, 1), (1, 2), (-1, 2), (3, 2), (2, 3), (-2, 3), (5, 6)
 
 class Three(IntEnum):
     THREE = 3
-
-
-def pair(fraction):
-    return (fraction.numerator, fraction.denominator)
 
 
 def is_written(text):
