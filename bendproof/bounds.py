@@ -1,7 +1,7 @@
 """Bounds that each place of a net keeps to at all points of a box: spans, slants, and the better of both."""
 
-from bendproof.forms import added, scaled
-from bendproof.ratios import NOUGHT, ONE, bent, less, minus, over, plus, times
+from bendproof.forms import added_times, even_form, lone_form, scaled
+from bendproof.ratios import NOUGHT, bent, less, minus, over, plus, times
 
 
 def turned(pair, share):
@@ -36,24 +36,14 @@ def spans(net, box):
     return found
 
 
-def even_form(constant, many):
-    """The form over so many ins that is the constant everywhere."""
-    return [constant] + [NOUGHT] * many
-
-
-def in_form(place, many):
-    """The form over so many ins that is one of them alone."""
-    return [NOUGHT] + [ONE if k == place else NOUGHT for k in range(many)]
-
-
 def sum_slants(constant, terms, found, many):
     """The slants of a sum, the slants ahead of it being found."""
     under = even_form(constant, many)
     above = even_form(constant, many)
     for place, share in terms:
         pair = turned(found[place], share)
-        under = added(under, scaled(pair[0], share))
-        above = added(above, scaled(pair[1], share))
+        under = added_times(under, pair[0], share)
+        above = added_times(above, pair[1], share)
     return (under, above)
 
 
@@ -77,7 +67,7 @@ def slants(net, box):
     """For each place a form over the ins that it never goes below, and one that it never goes above."""
     told = net.told()
     many = told[0]
-    found = [(in_form(place, many), in_form(place, many)) for place in range(many)]
+    found = [(lone_form(place, many), lone_form(place, many)) for place in range(many)]
     for unit in told[1]:
         if unit[0] == "sum":
             found.append(sum_slants(unit[1], unit[2], found, many))

@@ -73,14 +73,19 @@ def told_unit(unit):
     return unit
 
 
+def terms_value(constant, terms, found):
+    """What a constant and terms come to, their places' values being found."""
+    total = constant
+    for place, share in terms:
+        total = plus(total, times(share, found[place]))
+    return total
+
+
 def value_of(unit, found):
     """The value of a unit, those of the places ahead of it being found."""
     if unit[0] == "bend":
         return bent(found[unit[1]])
-    total = unit[1]
-    for place, share in unit[2]:
-        total = plus(total, times(share, found[place]))
-    return total
+    return terms_value(unit[1], unit[2], found)
 
 
 class Net:

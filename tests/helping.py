@@ -187,3 +187,103 @@ def twice_over(many=80):
         else:
             units.append(("sum", (1, 1), [(place - 1, (1, 1)), (place - 2, (1, 2))]))
     return units
+
+
+def spans_by_hand(units, sides):
+    """Each place's span, reckoned apart from the program in fractions."""
+    found = [(Fraction(*low), Fraction(*high)) for low, high in sides]
+    for unit in units:
+        if unit[0] == "bend":
+            found.append(tuple(max(end, Fraction(0)) for end in found[unit[1]]))
+        else:
+            ranges = [sorted(Fraction(*share) * end for end in found[place]) for place, share in unit[2]]
+            found.append(tuple(Fraction(*unit[1]) + sum(pick[k] for pick in ranges) for k in (0, 1)))
+    return found
+
+
+def combined(parts, count):
+    """The sum of forms (lists of so many fractions), each times its share."""
+    return [sum((share * form[k] for share, form in parts), Fraction(0)) for k in range(count)]
+
+
+def forms_by_hand(many, units, case):
+    """Each place's form in a case, reckoned apart from the program in fractions."""
+    count = 1 + many + case.count("open")
+    lone = [[Fraction(k == j) for k in range(count)] for j in range(count)]
+    found = lone[1:many + 1]
+    states = iter(case)
+    opened = iter(lone[many + 1:])
+    for unit in units:
+        if unit[0] == "sum":
+            terms = [(Fraction(*share), found[place]) for place, share in unit[2]]
+            found.append(combined([(Fraction(*unit[1]), lone[0])] + terms, count))
+        else:
+            state = next(states)
+            found.append({"on": found[unit[1]], "off": [Fraction(0)] * count}.get(state) or next(opened))
+    return found
+
+
+def rows_by_hand(many, units, sides, case):
+    """The rows of a case, reckoned apart from the program in fractions: (shares, bound)."""
+    forms = forms_by_hand(many, units, case)
+    widths = spans_by_hand(units, sides)
+    bends = [many + k for k, unit in enumerate(units) if unit[0] == "bend"]
+    # Each is a form, and the number that it is not above.
+    caps = []
+    for form, (low, high) in zip(forms[:many], widths):
+        caps += [(form, high), ([-part for part in form], -low)]
+    for place, state in zip(bends, case):
+        form, (low, high) = forms[units[place - many][1]], widths[units[place - many][1]]
+        below = [-part for part in form]
+        if state != "open":
+            caps.append((below if state == "on" else form, 0))
+            continue
+        own = forms[place]
+        caps += [([-part for part in own], 0), ([a - b for a, b in zip(form, own)], 0)]
+        if low < 0 < high:
+            caps.append(([(high - low) * b - high * a for a, b in zip(form, own)], -high * low))
+        elif low >= 0:
+            caps.append(([b - a for a, b in zip(form, own)], 0))
+        else:
+            caps.append((own, 0))
+    return [(form[1:], number - form[0]) for form, number in caps]
+
+
+def right_by_hand(net, sides, saying, tree, case=None):
+    """Whether a tree that is made as told is right, reckoned apart from the program."""
+    many, units, _ = net
+    if case is None:
+        case = ["open" for unit in units if unit[0] == "bend"]
+    if tree[0] == "split":
+        k = tree[1]
+        if k not in range(len(case)) or case[k] != "open":
+            return False
+        return all(right_by_hand(net, sides, saying, part, case[:k] + [state] + case[k + 1:])
+                   for part, state in zip(tree[2:], ("on", "off")))
+    rows = rows_by_hand(many, units, sides, case)
+    prices = fractions(tree[1])
+    if len(prices) != len(rows) or any(price < 0 for price in prices):
+        return False
+    count = many + case.count("open")
+    forms = forms_by_hand(many, units, case)
+    form = combined([(Fraction(*share), forms[place]) for place, share in saying[0]], count + 1)
+    total = combined([(price, shares + [bound]) for price, (shares, bound) in zip(prices, rows)], count + 1)
+    if total[:-1] == form[1:] and total[-1] + form[0] <= Fraction(*saying[1]):
+        return True
+    return not any(total[:-1]) and total[-1] < 0
+
+
+def leaves_of(tree):
+    """The prices of each leaf of a tree."""
+    return [tree[1]] if tree[0] == "leaf" else leaves_of(tree[2]) + leaves_of(tree[3])
+
+
+def terms_at(units, terms, point):
+    """What terms come to at a point of fractions, reckoned apart from the program."""
+    values = walk(units, point)
+    return sum((Fraction(*share) * values[place] for place, share in terms), Fraction(0))
+
+
+def some_terms(chance, count, most=4):
+    """Terms over so many places by chance, perhaps none, perhaps a place twice."""
+    return [(chance.randrange(count), some_ratio(chance)) for _ in range(chance.randint(0, most))]

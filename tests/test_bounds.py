@@ -5,8 +5,8 @@ from bendproof.bounds import bounds, slants, spans
 from bendproof.boxes import Box
 from bendproof.nets import Net
 from bendproof.ratios import times
-from helping import (assert_own_lists, assert_ratio, fractions, pair, pairs, points_in, some_nets, spoil, twice_over,
-                     walk)
+from helping import (assert_own_lists, assert_ratio, fractions, pair, pairs, points_in, some_nets, spans_by_hand,
+                     spoil, twice_over, walk)
 
 NOUGHT = (0, 1)
 ONE = (1, 1)
@@ -20,17 +20,6 @@ def at(form, point):
 def ends(form, sides):
     values = [at(form, point) for point in points_in(sides, 0)]
     return min(values), max(values)
-
-
-def expected_spans(units, sides):
-    found = [(Fraction(*low), Fraction(*high)) for low, high in sides]
-    for unit in units:
-        if unit[0] == "bend":
-            found.append(tuple(max(end, Fraction(0)) for end in found[unit[1]]))
-        else:
-            ranges = [sorted(Fraction(*share) * end for end in found[place]) for place, share in unit[2]]
-            found.append(tuple(Fraction(*unit[1]) + sum(pick[k] for pick in ranges) for k in (0, 1)))
-    return found
 
 
 def expected_slants(units, sides):
@@ -92,7 +81,7 @@ class Spans(BoundTest):
     def test_some_by_chance(self):
         for (many, units, outs), sides in some_nets():
             told = spans(Net(many, units, outs), Box(sides))
-            self.assertEqual(told, [(pair(low), pair(high)) for low, high in expected_spans(units, sides)])
+            self.assertEqual(told, [(pair(low), pair(high)) for low, high in spans_by_hand(units, sides)])
             self.assertIs(type(told), list)
             for span in told:
                 self.assertEqual([type(span), len(span)], [tuple, 2])
@@ -195,7 +184,7 @@ class Bounds(BoundTest):
             net, box = Net(many, units, outs), Box(sides)
             told = bounds(net, box)
             expected = []
-            for span, (under, above) in zip(expected_spans(units, sides), expected_slants(units, sides)):
+            for span, (under, above) in zip(spans_by_hand(units, sides), expected_slants(units, sides)):
                 least, most = ends(pairs(under), sides)[0], ends(pairs(above), sides)[1]
                 better["span"] += (span[0] > least) + (span[1] < most)
                 better["slant"] += (span[0] < least) + (span[1] > most)
@@ -227,7 +216,7 @@ class Hold(BoundTest):
         units = twice_over()
         sides = [((-2, 1), (1, 3))]
         net, box = Net(1, units, [80]), Box(sides)
-        expected = expected_spans(units, sides)
+        expected = spans_by_hand(units, sides)
         self.assertEqual(spans(net, box), [(pair(low), pair(high)) for low, high in expected])
         told = slants(net, box)
         self.assertEqual(told, [(pairs(under), pairs(above)) for under, above in expected_slants(units, sides)])
