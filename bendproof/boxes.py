@@ -17,6 +17,17 @@ def checked_side(side):
     return (plain(side[0]), plain(side[1]))
 
 
+def form_ends(form, sides):
+    """The least and the greatest value of a form whose variables have these sides; shares beyond them count nothing."""
+    least = form[0]
+    greatest = form[0]
+    for share, side in zip(form[1:], sides):
+        falls = less(share, NOUGHT)
+        least = plus(least, times(share, side[1] if falls else side[0]))
+        greatest = plus(greatest, times(share, side[0] if falls else side[1]))
+    return (least, greatest)
+
+
 class Box:
     """All points that have a ratio in each side."""
 
@@ -37,10 +48,4 @@ class Box:
 
     def ends(self, form):
         """The least and the greatest value that a form has in the box."""
-        least = form[0]
-        greatest = form[0]
-        for share, side in zip(form[1:], self.sides):
-            falls = less(share, NOUGHT)
-            least = plus(least, times(share, side[1] if falls else side[0]))
-            greatest = plus(greatest, times(share, side[0] if falls else side[1]))
-        return (least, greatest)
+        return form_ends(form, self.sides)

@@ -2,9 +2,7 @@
 
 from bendproof.bounds import spans
 from bendproof.forms import added_times, even_form, lone_form, scaled
-from bendproof.ratios import NOUGHT, less, minus, times
-
-MINUS_ONE = (-1, 1)
+from bendproof.ratios import MINUS_ONE, NOUGHT, less, minus, times
 
 
 def bent_places(net):

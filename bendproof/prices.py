@@ -1,6 +1,6 @@
 """Prices: rows mixed to one, and the greatest sum under rows with the prices that show it."""
 
-from bendproof.ratios import NOUGHT, common, over, over_one_bottom, ratio, times
+from bendproof.ratios import MINUS_ONE, NOUGHT, common, over, over_one_bottom, ratio, times
 from bendproof.tableau import Tableau, climb, likely_heads, mend, seat_variables
 
 
@@ -70,7 +70,7 @@ def highest(rows, goal):
     """The greatest sum of the goal's ratios times those of a point that keeps all rows, or why there is none."""
     lines = [whole_line(shares + [bound]) for shares, bound in rows]
     scales = [line[1] for line in lines]
-    aim = whole_line([times(one, (-1, 1)) for one in goal] + [NOUGHT])
+    aim = whole_line([times(one, MINUS_ONE) for one in goal] + [NOUGHT])
     tableau = Tableau([line[0] for line in lines], aim[0])
     seat_variables(tableau, likely_heads(tableau.lines, tableau.goal))
     broken = mend(tableau)

@@ -4,6 +4,7 @@ from bendproof.errors import NoRatio, NoText
 
 NOUGHT = (0, 1)
 ONE = (1, 1)
+MINUS_ONE = (-1, 1)
 FIGURES = "0123456789"
 MOST_FIGURES = 60
 

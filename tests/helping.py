@@ -148,6 +148,19 @@ def some_net(chance, many, count):
     return many, units, outs
 
 
+def layers(chance, many, widths):
+    """Layers of bends of sums of all that stands in the layer ahead, and a sum of the last one, which is the out."""
+    units = []
+    ahead = list(range(many))
+    for width in widths:
+        start = many + len(units)
+        units += [("sum", some_ratio(chance), [(place, some_ratio(chance)) for place in ahead]) for _ in range(width)]
+        units += [("bend", start + k) for k in range(width)]
+        ahead = [start + width + k for k in range(width)]
+    units.append(("sum", (0, 1), [(place, some_ratio(chance)) for place in ahead]))
+    return many, units, [many + len(units) - 1]
+
+
 def some_sides(chance, many):
     """Sides of a box by chance, some of one ratio alone."""
     sides = []

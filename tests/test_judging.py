@@ -8,8 +8,8 @@ from bendproof.judging import greatest, judged
 from bendproof.nets import Net
 from bendproof.papers import holds, right_tree
 from bendproof.ratios import less, minus, plus, times
-from helping import (assert_own_lists, assert_ratio, fractions, leaves_of, pair, points_in, right_by_hand, some_net,
-                     some_nets, some_ratio, some_sides, some_terms, spans_by_hand, spoil, terms_at)
+from helping import (assert_own_lists, assert_ratio, fractions, layers, leaves_of, pair, points_in, right_by_hand, some_net,
+                     some_nets, some_sides, some_terms, spans_by_hand, spoil, terms_at)
 
 NOUGHT = (0, 1)
 ONE = (1, 1)
@@ -27,19 +27,6 @@ def tent(count):
                   ("sum", NOUGHT, [(end, (2, 1)), (end + 2, (-4, 1))])]
         place = end + 3
     return 1, units, [place]
-
-
-def layers(chance, many, widths):
-    """Layers of bends of sums of all that stands in the layer ahead, and a sum of the last one, which is the out."""
-    units = []
-    ahead = list(range(many))
-    for width in widths:
-        start = many + len(units)
-        units += [("sum", some_ratio(chance), [(place, some_ratio(chance)) for place in ahead]) for _ in range(width)]
-        units += [("bend", start + k) for k in range(width)]
-        ahead = [start + width + k for k in range(width)]
-    units.append(("sum", NOUGHT, [(place, some_ratio(chance)) for place in ahead]))
-    return many, units, [many + len(units) - 1]
 
 
 def greatest_by_pieces(units, side, terms):
