@@ -101,6 +101,11 @@ def side_rows(form, side):
     return [not_above(form, side[1]), not_below(form, side[0])]
 
 
+def first_row(many, k):
+    """The number of the first of a bend's three rows, where all bends are open and there are so many ins."""
+    return 2 * many + 3 * k
+
+
 def rows_by(net, case, forms, widths):
     """The rows of a case, by the forms that its places have in it and the spans that they have in the box."""
     rows = []

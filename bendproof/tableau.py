@@ -67,6 +67,28 @@ class Tableau:
         fresh[column] = -line[column] * sign
         return fresh
 
+    def copied(self):
+        """A tableau at the same corner that goes its own way from here on."""
+        other = Tableau(list(self.lines), self.goal)
+        other.rooms = self.rooms
+        other.bottom = self.bottom
+        other.names = list(self.names)
+        other.heads = list(self.heads)
+        other.guide = self.guide
+        return other
+
+    def drop_head(self, column):
+        """Leaves a column's head at nought for good."""
+        self.lines = [line[:column] + line[column + 1:] for line in self.lines]
+        self.goal = self.goal[:column] + self.goal[column + 1:]
+        self.guide = self.guide[:column] + self.guide[column + 1:]
+        self.heads = self.heads[:column] + self.heads[column + 1:]
+
+    def drop_line(self, at):
+        """Lets go of a room that a line tells."""
+        self.lines = self.lines[:at] + self.lines[at + 1:]
+        self.names = self.names[:at] + self.names[at + 1:]
+
     def room_lines(self):
         """The numbers of the lines that tell a row's room."""
         return [at for at, name in enumerate(self.names) if name < self.rooms]
@@ -186,3 +208,28 @@ def likely_heads(lines, goal):
     if mend(tableau) is None:
         climb(tableau)
     return tableau.heads
+
+
+def pin(tableau, name):
+    """Makes a row's room nought for good, which is above 0 at the corner where the goal is greatest."""
+    at = tableau.names.index(name)
+    line = tableau.lines[at][:-1]
+    column = least_quotient(tableau.goal, line, tableau.heads)
+    if column is None:
+        # No heads from 0 on bring it down to nought: whatever is done, another room is below 0 then.
+        column = [k for k, number in enumerate(line) if number != 0][0]
+    tableau.exchange(at, column)
+    tableau.drop_head(column)
+
+
+def let_go(tableau, name):
+    """Takes away a row that each point keeps which keeps the others; by these no variable goes on for ever."""
+    if name in tableau.heads:
+        # So there is a room that falls as this one grows, and it becomes the head.
+        column = tableau.heads.index(name)
+        ats = tableau.room_lines()
+        lasts = [tableau.lines[at][-1] for at in ats]
+        takes = [tableau.lines[at][column] for at in ats]
+        k = least_quotient(lasts, takes, [tableau.names[at] for at in ats])
+        tableau.exchange(ats[k], column)
+    tableau.drop_line(tableau.names.index(name))
